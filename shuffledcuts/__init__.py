@@ -1,0 +1,1 @@
+"""Counts of orders by runs, shuffles and cuts."""
