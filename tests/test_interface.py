@@ -15,6 +15,16 @@ FUNCTIONS = {
     "sums": {
         "sum_breach": ["value"], "check_sum": ["value"], "plus": ["one", "other"], "times": ["k", "one"],
         "pairing": ["one", "other"], "degree_part": ["one", "n"], "degrees": ["one"]},
+    "bases": {
+        "plain_of_runs": ["one"], "runs_of_plain": ["one"], "ribbons_of_wholes": ["one"],
+        "wholes_of_ribbons": ["one"]},
+    "texts": {"written": ["one"], "read_sum": ["text"]},
+    "products": {
+        "overlaid": ["one", "other"], "run_product": ["one", "other"], "behind": ["one", "other"],
+        "ribbon_product": ["one", "other"]},
+    "listings": {
+        "shuffled": ["one", "other"], "run_sum": ["one"], "listing_cuts": ["one"], "back_listing": ["listing"],
+        "then": ["one", "other"]},
 }
 
 ERRORS = {
