@@ -121,6 +121,11 @@ def replaced(one, things_of):
     return sum_of_counts(counts)
 
 
+def everywhere(one, lead):
+    """Return the sum in which each thing is replaced by the sum, or row of terms, lead(thing)."""
+    return gathered([(row, k * j) for thing, k in one for row, j in lead(thing)])
+
+
 def multiplied(one, other, things_of):
     """Return the product, additive in both, that leads two things a, b to all of things_of(a, b)."""
     counts = {}

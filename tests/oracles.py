@@ -1,10 +1,12 @@
 """What the tests compare the program with: each thing counted straight from its definition, without the program."""
 
+import functools
 import itertools
 import math
 import random
 
 
+@functools.lru_cache(maxsize=None)
 def compositions(n):
     """All compositions of n, by the lots of places that they may have."""
     found = []
@@ -52,6 +54,7 @@ def single(thing):
     return ((thing, 1),)
 
 
+@functools.lru_cache(maxsize=None)
 def shuffle_pair(u, v):
     """All listings that have u and, raised by its length, v in sequence: picked from all listings."""
     n, m = len(u), len(v)
@@ -60,6 +63,7 @@ def shuffle_pair(u, v):
             if tuple(x for x in w if x < n) == u and tuple(x for x in w if x >= n) == raised]
 
 
+@functools.lru_cache(maxsize=None)
 def overlay_pair(a, b):
     """The compositions of all rows of pairs, the rows picked from all rows of their lengths."""
     found = []
@@ -104,3 +108,100 @@ def is_sum(value):
     things = [thing for thing, _ in value]
     return (is_plain(value) and all(type(k) is int and k for _, k in value)
             and all(low < high for low, high in zip(things, things[1:])))
+
+
+def behind_pair(a, b):
+    return [a + b]
+
+
+def ribbon_pair(a, b):
+    return [a + b, (*a[:-1], a[-1] + b[0], *b[1:])] if a and b else [a + b]
+
+
+@functools.lru_cache(maxsize=None)
+def run_pair(a, b):
+    """The runs of all shuffles of the least listing with the runs a and the greatest one with the runs b."""
+    u = next(w for w in listings(sum(a)) if runs(w) == a)
+    v = next(w for w in reversed(listings(sum(b))) if runs(w) == b)
+    return [runs(w) for w in shuffle_pair(u, v)]
+
+
+PRODUCTS = {"plain": overlay_pair, "runs": run_pair, "wholes": behind_pair, "ribbons": ribbon_pair,
+            "listings": shuffle_pair}
+SORTS = tuple(PRODUCTS)
+
+
+def leveled(row):
+    """The listing with the same sequence of lesser and greater as a row."""
+    return tuple(sum(other < entry for other in row) for entry in row)
+
+
+def plain_cut(c):
+    return [(c[:at], c[at:]) for at in range(len(c) + 1)]
+
+
+@functools.lru_cache(maxsize=None)
+def run_cut(c):
+    """The pairs picked from all pairs of compositions whose numbers add up."""
+    n = sum(c)
+    return [(a, b) for i in range(n + 1) for a in compositions(i) for b in compositions(n - i)
+            if c in ribbon_pair(a, b)]
+
+
+def whole_cut(c):
+    return [(tuple(i for i in row if i), tuple(k - i for i, k in zip(row, c) if k - i))
+            for row in itertools.product(*(range(k + 1) for k in c))]
+
+
+def listing_cut(w):
+    return [(leveled(w[:at]), leveled(w[at:])) for at in range(len(w) + 1)]
+
+
+def coarser(c):
+    return [b for b in compositions(sum(c)) if places(b) <= places(c)]
+
+
+def finer(c):
+    return [b for b in compositions(sum(c)) if places(b) >= places(c)]
+
+
+def sign(k):
+    return (-1) ** (k % 2)
+
+
+@functools.lru_cache(maxsize=None)
+def ribbon_cut_terms(c):
+    """The terms of the cuts of a ribbon, told by wholes and back by ribbons on both sides."""
+    return [((x, y), sign(len(c) - len(h))) for h in coarser(c) for a, b in whole_cut(h)
+            for x in coarser(a) for y in coarser(b)]
+
+
+CUTS = {"plain": plain_cut, "runs": run_cut, "wholes": whole_cut, "listings": listing_cut}
+
+
+def cut_terms(thing, sort):
+    """The cuts of one thing, with numbers, in any sequence."""
+    return ribbon_cut_terms(thing) if sort == "ribbons" else [(pair, 1) for pair in CUTS[sort](thing)]
+
+
+def cut_sum(one, sort):
+    return total((pair, k * j) for thing, k in one for pair, j in cut_terms(thing, sort))
+
+
+def multiply(one, other, sort):
+    return product(PRODUCTS[sort], one, other)
+
+
+def pair_up(one, other):
+    """The sum over all things of the products of both numbers."""
+    numbers = dict(other)
+    return sum(k * numbers.get(thing, 0) for thing, k in one)
+
+
+def everywhere(lead, one):
+    """The sum with each thing replaced by the sum lead(thing)."""
+    return total((row, k * j) for thing, k in one for row, j in lead(thing))
+
+
+def things_up_to(n, sort):
+    return listings_up_to(n) if sort == "listings" else compositions_up_to(n)

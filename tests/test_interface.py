@@ -25,6 +25,16 @@ FUNCTIONS = {
     "listings": {
         "shuffled": ["one", "other"], "run_sum": ["one"], "listing_cuts": ["one"], "back_listing": ["listing"],
         "then": ["one", "other"]},
+    "cuts": {
+        "plain_cuts": ["one"], "run_cuts": ["one"], "whole_cuts": ["one"], "ribbon_cuts": ["one"],
+        "paired": ["one", "other"], "cut_product": ["one", "other", "product"]},
+    "turns": {
+        "turned_back": ["one", "sort"], "turned_by_depths": ["one", "sort"], "turned_short": ["one", "sort"]},
+    "lots": {
+        "wide_lot": ["composition"], "narrow_lot": ["composition"], "lot_product": ["one", "other"],
+        "narrow_product": ["one", "other"], "lot_counts": ["one"]},
+    "shares": {
+        "rising_row": ["n"], "rising_share": ["n", "k"], "shuffle_row": ["n", "a"], "runs_counts": ["n"]},
 }
 
 ERRORS = {

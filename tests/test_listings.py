@@ -28,10 +28,6 @@ def from_the_end(listing):
     return listing[::-1]
 
 
-def leveled(row):
-    return tuple(sum(other < entry for other in row) for entry in row)
-
-
 def of_one_length(n):
     return [(), *oracles.sample_sums(oracles.listings(n), 6, 8, n)]
 
@@ -138,14 +134,14 @@ class Cuts(unittest.TestCase):
     def test_all_single_listings(self):
         for listing in oracles.listings_up_to(6):
             found = listings.listing_cuts(single(listing))
-            wanted = [(leveled(listing[:at]), leveled(listing[at:])) for at in range(len(listing) + 1)]
+            wanted = [(oracles.leveled(listing[:at]), oracles.leveled(listing[at:])) for at in range(len(listing) + 1)]
             self.assertEqual(found, oracles.total((pair, 1) for pair in wanted))
             self.assertEqual(len(found), len(listing) + 1)
             self.assertTrue(oracles.is_sum(found))
 
     def test_sums(self):
         for one in SAMPLES + oracles.sample_sums(oracles.listings_up_to(5), 10, 40, "cuts"):
-            terms = [((leveled(w[:at]), leveled(w[at:])), k) for w, k in one for at in range(len(w) + 1)]
+            terms = [((oracles.leveled(w[:at]), oracles.leveled(w[at:])), k) for w, k in one for at in range(len(w) + 1)]
             self.assertEqual(listings.listing_cuts(one), oracles.total(terms))
         self.assertEqual(listings.listing_cuts((((0, 1), 1), ((1, 0), -1))),
                          ((((), (0, 1)), 1), (((), (1, 0)), -1), (((0, 1), ()), 1), (((1, 0), ()), -1)))

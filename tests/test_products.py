@@ -25,23 +25,6 @@ def everywhere(lead, one):
     return oracles.total((lead(thing), k) for thing, k in one)
 
 
-def behind_rule(a, b):
-    return [a + b]
-
-
-def ribbon_rule(a, b):
-    return [a + b, (*a[:-1], a[-1] + b[0], *b[1:])] if a and b else [a + b]
-
-
-def listings_of_runs(composition):
-    return [w for w in oracles.listings(sum(composition)) if oracles.runs(w) == composition]
-
-
-def run_rule(a, b):
-    """The runs of the shuffles of the least listing with the runs a and the greatest one with the runs b."""
-    return [oracles.runs(w) for w in oracles.shuffle_pair(listings_of_runs(a)[0], listings_of_runs(b)[-1])]
-
-
 class Rules(unittest.TestCase):
     def test_examples(self):
         self.assertEqual(products.overlaid(single((1,)), single((1,))), (((1, 1), 2), ((2,), 1)))
@@ -76,7 +59,7 @@ class Rules(unittest.TestCase):
         for n in range(7):
             for a in oracles.compositions(n):
                 for b in oracles.compositions(6 - n):
-                    wanted = oracles.total((thing, 1) for thing in run_rule(a, b))
+                    wanted = oracles.total((thing, 1) for thing in oracles.run_pair(a, b))
                     self.assertEqual(products.run_product(single(a), single(b)), wanted)
 
     def test_the_numbers_of_run_product(self):
@@ -88,7 +71,7 @@ class Rules(unittest.TestCase):
     def test_behind_and_ribbon_product_of_single_compositions(self):
         for a, b in PAIRS + GREAT_PAIRS:
             self.assertEqual(products.behind(single(a), single(b)), single(a + b))
-            wanted = oracles.total((thing, 1) for thing in ribbon_rule(a, b))
+            wanted = oracles.total((thing, 1) for thing in oracles.ribbon_pair(a, b))
             self.assertEqual(products.ribbon_product(single(a), single(b)), wanted)
 
     def test_an_empty_composition_on_either_side(self):
@@ -98,8 +81,8 @@ class Rules(unittest.TestCase):
                 self.assertEqual(product(single(()), single(a)), single(a))
 
     def test_sums_by_additivity(self):
-        rules = [(products.overlaid, oracles.overlay_pair), (products.run_product, run_rule),
-                 (products.behind, behind_rule), (products.ribbon_product, ribbon_rule)]
+        rules = [(products.overlaid, oracles.overlay_pair), (products.run_product, oracles.run_pair),
+                 (products.behind, oracles.behind_pair), (products.ribbon_product, oracles.ribbon_pair)]
         for product, rule in rules:
             for one in SAMPLES:
                 for other in SAMPLES:
