@@ -35,6 +35,15 @@ FUNCTIONS = {
         "narrow_product": ["one", "other"], "lot_counts": ["one"]},
     "shares": {
         "rising_row": ["n"], "rising_share": ["n", "k"], "shuffle_row": ["n", "a"], "runs_counts": ["n"]},
+    "orders": {
+        "check_order": ["value"], "order_of": ["n", "pairs"], "rows_of": ["order"], "row_count": ["order"],
+        "lower_lots": ["order"], "part_order": ["order", "things"], "beside_order": ["one", "other"],
+        "below_all": ["one", "other"], "upside_down": ["order"], "swapped": ["order"]},
+    "fillings": {
+        "order_sum": ["order"], "strict_sum": ["order"], "fillings": ["order", "m"], "filling_row": ["order"]},
+    "webs": {
+        "check_web": ["value"], "web_sum": ["web"], "colourings": ["web", "m"], "colour_row": ["web"],
+        "beside_web": ["one", "other"], "part_web": ["web", "places"], "one_ways": ["web"]},
 }
 
 ERRORS = {
