@@ -1,7 +1,8 @@
 """Labelled orders: pairs (n, pairs) of things 0, .., n - 1, with (x, y) for x below y."""
 
 from shuffledcuts.errors import NotOrder
-from shuffledcuts.pairs import beside_one_another, has_form, lots_parted, part_of
+from shuffledcuts.pairs import beside_one_another, has_form, part_of
+from shuffledcuts.partings import lots_parted
 
 
 def joined(pairs):

@@ -38,15 +38,6 @@ def has_form(value):
     return all([is_pair_of_things(pair, n) for pair in pairs]) and is_ascending(pairs)
 
 
-def lots_parted(things):
-    """Return the pairs (some of the things, the other ones) for all lots of things, each in their sequence."""
-    parted = [((), ())]
-    for thing in things:
-        parted = ([(lot + (thing,), rest) for lot, rest in parted]
-                  + [(lot, rest + (thing,)) for lot, rest in parted])
-    return parted
-
-
 def beside_one_another(one, other):
     """Return both with the things of the other one numbered behind those of the one, or raise TooMany."""
     n = one[0] + other[0]

@@ -112,6 +112,17 @@ def gathered(terms):
     return sum_of_counts(counts)
 
 
+def merged(terms):
+    """Return the sum of the terms, as gathered does, by comparing alone: for things nested too deep for a key."""
+    rows = []
+    for thing, k in sorted(terms):
+        if rows and rows[-1][0] == thing:
+            rows[-1] = (thing, rows[-1][1] + k)
+        else:
+            rows.append((thing, k))
+    return tuple([(thing, k) for thing, k in rows if k != 0])
+
+
 def replaced(one, things_of):
     """Return the sum in which each thing is replaced by all of things_of(thing)."""
     counts = {}

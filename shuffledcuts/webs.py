@@ -4,9 +4,9 @@ from math import comb, factorial
 
 from shuffledcuts.compositions import sign_of
 from shuffledcuts.errors import NotWeb
-from shuffledcuts.pairs import beside_one_another, has_form, lots_parted, part_of
+from shuffledcuts.pairs import beside_one_another, has_form, part_of
+from shuffledcuts.partings import told_by_lots
 from shuffledcuts.ratios import falling_row
-from shuffledcuts.sums import gathered
 
 
 def check_web(value):
@@ -21,22 +21,11 @@ def is_tied(ties, lot):
     return any([x in lot and y in lot for x, y in ties])
 
 
-def sum_of_lot(ties, places, kept):
-    """Return the web sum of the ties within some places; kept has that of none and those found so far."""
-    # The places of 1 are any lot without a tie in it, and the other ones are coloured like a web of their own.
-    if places not in kept:
-        terms = []
-        for lot, rest in lots_parted(places):
-            if lot and not is_tied(ties, lot):
-                terms.extend([((len(lot),) + thing, k) for thing, k in sum_of_lot(ties, rest, kept)])
-        kept[places] = gathered(terms)
-    return kept[places]
-
-
 def web_sum(web):
     """Return the plain sum of the colourings without a gap, by how many places each number has."""
     n, ties = web
-    return sum_of_lot(ties, tuple(range(n)), {(): (((), 1),)})
+    # The places of each number are any lot without a tie in it.
+    return told_by_lots(n, lambda lot, rest: 0 if is_tied(ties, lot) else 1)
 
 
 def colourings(web, m):
