@@ -4,7 +4,7 @@ from itertools import permutations
 from math import comb, factorial
 
 from shuffledcuts.compositions import runs_of
-from shuffledcuts.ratios import falling_row, ratio
+from shuffledcuts.ratios import falling_row, power, ratio
 
 
 def rising_row(n):
@@ -25,9 +25,7 @@ def shuffle_row(n, a):
     """Return the chances that a shuffle with a heaps leads to a told listing of n with 1, 2, .. runs."""
     if n == 0:
         return ((1, 1),)
-    ways = 1
-    for _ in range(n):
-        ways *= a
+    ways = power(a, n)
     return tuple([ratio(comb(a + n - 1 - d, n), ways) for d in range(n)])
 
 

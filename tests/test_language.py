@@ -83,6 +83,12 @@ class Code(unittest.TestCase):
                 self.assertNotIn(name, dir(builtins), path)
                 self.assertFalse(name.startswith("__") and name != "__init__", path)
 
+    def test_imported_names_are_used_and_given_no_other_meaning(self):
+        for path, tree in trees():
+            imported = {name.name for node in tree.body if isinstance(node, ast.ImportFrom) for name in node.names}
+            used = {node.id for node in ast.walk(tree) if isinstance(node, ast.Name)}
+            self.assertEqual((imported - used, imported & set(bound_names(tree))), (set(), set()), path)
+
     def test_the_builtins_that_are_called(self):
         barred = set(dir(builtins)) - BUILTINS
         for path, tree in trees():
