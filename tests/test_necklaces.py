@@ -12,8 +12,8 @@ from shuffledcuts.errors import CutError, TooMany
 from shuffledcuts.products import overlaid
 from shuffledcuts.shares import rising_row
 from shuffledcuts.sums import plus, times
-from test_webs import WEBS
 from shuffledcuts.webs import web_sum
+from test_webs import WEBS
 
 SOON = 20
 
